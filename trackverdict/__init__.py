@@ -1,0 +1,1 @@
+"""Verdicts on tracked changes: see trackverdict.verdicts.answers."""
