@@ -9,7 +9,7 @@ PLAIN = (0, 0, 0, 0)
 
 
 def piece(sign, insertions=(), deletions=(), pending=(), look=PLAIN):
-    """A piece as Session.row tells it."""
+    """A piece as Session.pieces tells it."""
     code = ord(sign) if isinstance(sign, str) else sign
     return (code, tuple(look), tuple(insertions), tuple(deletions), tuple(pending))
 
@@ -61,20 +61,48 @@ class Session:
     def judgelist(self, v, changes):
         return self.call(9, [v], changes)
 
+    def judgetouching(self, v, i, j):
+        return self.call(10, [v, i, j])
+
+    def judgepart(self, v, i, j):
+        return self.call(11, [v, i, j])
+
+    def falls(self, v, c):
+        return self.call(12, [v, c])
+
+    def spots(self, c):
+        return self.call(13, [c])
+
+    def standing(self):
+        return self.call(14, [])
+
+    def fate(self, c):
+        return self.call(15, [c])
+
+    def what(self, changes):
+        return self.call(16, [], changes)
+
+    def row(self):
+        return self.call(17, [])
+
+    def people(self):
+        return self.call(18, [])
+
     def size(self):
         return self.call(19, [])
 
-    def row(self):
+    def pieces(self):
+        """The row as it is kept, a tuple for each piece: no call is made for it."""
         return [
-            (sign, run.look, run.insertions, run.deletions, run.pending)
+            (sign, look, run.insertions, run.deletions, run.pending)
             for run in self.text.row
-            for sign in run.signs
+            for sign, look in zip(run.signs, run.looks, strict=True)
         ]
 
     def signs(self):
         """The signs of the row, with those not shown in brackets and an end as '|'."""
         told = ""
-        for sign, _, _, deletions, _ in self.row():
+        for sign, _, _, deletions, _ in self.pieces():
             letter = "|" if sign == 10 else chr(sign)
             told += f"[{letter}]" if deletions else letter
         return told
@@ -89,13 +117,23 @@ class Session:
     def state(self):
         count = len(self.text.changes)
         return (
-            self.row(),
+            self.pieces(),
             self.changes(),
             [self.tallies(c) for c in range(1, count + 1)],
             self.text.author,
             self.text.time,
             self.text.tracking,
         )
+
+
+def play_example(session):
+    """The document's example up to its row: a, x and [y] by change 1, [y] and [b] cut by change 2, c, the last end."""
+    session.put(0, "abc")
+    session.track(1)
+    session.author(2)
+    session.put(1, "xy")
+    session.author(3)
+    session.cut(2, 4)
 
 
 class SessionCase(unittest.TestCase):

@@ -1,7 +1,10 @@
 """The document once more, piece by piece and word by word, to compare the program with.
 
-It is slow and knows no runs: a row of single pieces, every verdict given to the whole row.
+It is slow and knows no runs: a row of single pieces, each verdict given to one piece after another.
 """
+
+import copy
+import itertools
 
 
 class Piece:
@@ -12,7 +15,7 @@ class Piece:
         self.deletions = []
         self.pending = []
 
-    def copy(self):
+    def moved(self):
         other = Piece(self.sign, self.look, self.insertions)
         other.pending = list(self.pending)
         return other
@@ -27,6 +30,10 @@ class Piece:
 
     def marks(self):
         return self.insertions + self.deletions + [c for c, _, _ in self.pending]
+
+    def role(self, c):
+        painting = [d for d, _, _ in self.pending]
+        return 1 * (c in self.insertions) + 2 * (c in self.deletions) + 4 * (c in painting)
 
     def told(self):
         return (self.sign, tuple(self.look), tuple(self.insertions), tuple(self.deletions), tuple(self.pending))
@@ -60,14 +67,14 @@ def accept_pending(piece, c, k):
 
 class Model:
     def __init__(self):
-        self.row = [Piece(10, [0, 0, 0, 0], [])]
+        self.pieces = [Piece(10, [0, 0, 0, 0], [])]
         self.now = (1, 0)
         self.tracking = False
         self.changes = []
         self.tallies = []
 
     def shown(self):
-        return [piece for piece in self.row if not piece.deletions]
+        return [piece for piece in self.pieces if not piece.deletions]
 
     def own(self, piece):
         return bool(piece.insertions) and self.changes[piece.insertions[-1] - 1][0] == self.now[0]
@@ -76,15 +83,15 @@ class Model:
         return not self.tracking or self.own(piece)
 
     def before(self, target, pieces):
-        at = [index for index, piece in enumerate(self.row) if piece is target][0]
-        self.row[at:at] = pieces
+        at = [index for index, piece in enumerate(self.pieces) if piece is target][0]
+        self.pieces[at:at] = pieces
 
     def take_out(self, target):
-        self.row = [piece for piece in self.row if piece is not target]
+        self.pieces = [piece for piece in self.pieces if piece is not target]
 
     def enter(self, kind):
         m = len(self.changes) + 1
-        if not any(m in piece.marks() for piece in self.row):
+        if not any(m in piece.marks() for piece in self.pieces):
             return 0
         self.changes.append(self.now + (kind,))
         self.tallies.append([0, 0, 0])
@@ -170,42 +177,48 @@ class Model:
                 self.take_out(piece)
                 coming.append(piece)
             else:
-                copy = piece.copy()
-                copy.insertions.append(m)
-                coming.append(copy)
+                twin = piece.moved()
+                twin.insertions.append(m)
+                coming.append(twin)
                 piece.deletions = [m]
         self.before(shown[r], coming)
         return self.enter(4)
 
     def marks(self):
         counts = [0] * (len(self.changes) + 1)
-        for piece in self.row:
+        for piece in self.pieces:
             for c in piece.marks():
                 counts[c] += 1
         return counts
 
-    def give(self, v, c):
+    def give(self, v, c, pieces):
         before = self.marks()
-        self.row = [piece for piece in self.row if stays_after(piece, v, c)]
+        for piece in pieces:
+            if not stays_after(piece, v, c):
+                self.take_out(piece)
         now = self.marks()
         for d in range(1, len(self.changes) + 1):
             column = 2 if d != c else 1 - v
             self.tallies[d - 1][column] += before[d] - now[d]
 
-    def judge_all(self, v, selected):
+    def judge_selected(self, v, selected, part=None):
+        """Upon what is no move the verdict is given to the part alone, if there is one."""
         before = self.marks()
-        pieces = len(self.row)
+        pieces = len(self.pieces)
         for c in sorted(set(selected)):
-            self.give(v, c)
+            given = self.pieces
+            if part is not None and self.changes[c - 1][2] != 4:
+                given = [piece for piece in self.pieces if any(piece is other for other in part)]
+            self.give(v, c, given)
         stood = len([c for c in set(selected) if before[c] > 0])
-        return [stood, pieces - len(self.row), sum(before) - sum(self.marks())]
+        return [stood, pieces - len(self.pieces), sum(before) - sum(self.marks())]
 
     def judge(self, v, c):
         if v not in (0, 1):
             return -2
         if c < 1 or c > len(self.changes):
             return -4
-        return self.judge_all(v, [c])
+        return self.judge_selected(v, [c])
 
     def judgeby(self, v, a, k, from_time, to_time):
         if v not in (0, 1) or a < 0 or a > 99 or k < 0 or k > 4:
@@ -214,22 +227,103 @@ class Model:
         for index, (author, time, kind) in enumerate(self.changes):
             if a in (0, author) and k in (0, kind) and time >= from_time and time <= to_time:
                 selected.append(index + 1)
-        return self.judge_all(v, selected)
+        return self.judge_selected(v, selected)
 
     def judgelist(self, v, changes):
         if v not in (0, 1):
             return -2
         if any(c < 1 or c > len(self.changes) for c in changes):
             return -4
-        return self.judge_all(v, changes)
+        return self.judge_selected(v, changes)
+
+    def refused_part(self, v, i, j):
+        if v not in (0, 1):
+            return -2
+        if not (0 <= i and i < j and j <= len(self.pieces)):
+            return -1
+        return 0
+
+    def judgetouching(self, v, i, j):
+        refusal = self.refused_part(v, i, j)
+        if refusal:
+            return refusal
+        return self.judge_selected(v, [c for piece in self.pieces[i:j] for c in piece.marks()])
+
+    def judgepart(self, v, i, j):
+        refusal = self.refused_part(v, i, j)
+        if refusal:
+            return refusal
+        part = self.pieces[i:j]
+        return self.judge_selected(v, [c for piece in part for c in piece.marks()], part)
+
+    def standing(self):
+        numbers = [c for c, marks in enumerate(self.marks()) if marks > 0]
+        return [len(numbers)] + numbers
+
+    def falls(self, v, c):
+        after = copy.deepcopy(self)
+        answer = after.judge(v, c)
+        if not isinstance(answer, list):
+            return answer
+        left = after.standing()[1:]
+        numbers = [d for d in self.standing()[1:] if d != c and d not in left]
+        return [len(numbers)] + numbers
+
+    def spots(self, c):
+        if c < 1 or c > len(self.changes):
+            return -4
+        roles = [(place, piece.role(c)) for place, piece in enumerate(self.pieces)]
+        told = []
+        for role, group in itertools.groupby(roles, key=lambda pair: pair[1]):
+            places = [place for place, _ in group]
+            if role != 0:
+                told.append([places[0], len(places), role])
+        return [len(told)] + sum(told, [])
+
+    def fate(self, c):
+        if c < 1 or c > len(self.changes):
+            return -4
+        return list(self.changes[c - 1]) + [self.marks()[c]] + self.tallies[c - 1]
+
+    def what(self, changes):
+        if any(c < 1 or c > len(self.changes) for c in changes):
+            return -4
+        told = []
+        for piece in self.pieces:
+            if set(piece.insertions) <= set(changes) and not set(piece.deletions) & set(changes):
+                twin = piece.moved()
+                twin.pending = [entry for entry in piece.pending if entry[0] in changes]
+                told.append([piece.sign] + twin.shown_look())
+        return [len(told)] + sum(told, [])
+
+    def row(self):
+        told = [len(self.pieces)]
+        for piece in self.pieces:
+            told += [piece.sign] + piece.look
+            told += [len(piece.insertions)] + piece.insertions
+            told += [len(piece.deletions)] + piece.deletions
+            told += [len(piece.pending)] + [number for entry in piece.pending for number in entry]
+        return told
+
+    def people(self):
+        standing = self.standing()[1:]
+        authors = sorted(set(self.changes[c - 1][0] for c in standing))
+        told = [len(authors)]
+        for author in authors:
+            theirs = [c for c in standing if self.changes[c - 1][0] == author]
+            told += [author, len(theirs)]
+            told.append(sum(piece.insertions.count(c) for c in theirs for piece in self.pieces))
+            told.append(sum(piece.deletions.count(c) for c in theirs for piece in self.pieces))
+            told.append(sum(d == c for c in theirs for piece in self.pieces for d, _, _ in piece.pending))
+        return told
 
     def size(self):
-        bare = [piece for piece in self.row if not piece.insertions]
-        return [len(self.shown()), len(self.row), len(bare), len(self.changes)]
+        bare = [piece for piece in self.pieces if not piece.insertions]
+        return [len(self.shown()), len(self.pieces), len(bare), len(self.changes)]
 
     def state(self):
         return (
-            [piece.told() for piece in self.row],
+            [piece.told() for piece in self.pieces],
             self.changes,
             [tuple(tally) for tally in self.tallies],
             self.now[0],

@@ -11,7 +11,7 @@ class Cut(SessionCase):
     def test_untracked_takes_the_pieces_out(self):
         self.session.put(0, "abcd")
         self.assertEqual(self.session.cut(1, 3), 0)
-        self.assertEqual(self.session.row(), [piece("a"), piece("d"), END])
+        self.assertEqual(self.session.pieces(), [piece("a"), piece("d"), END])
 
     def test_tracked_marks_the_pieces(self):
         self.session.put(0, "abcd")
@@ -20,7 +20,7 @@ class Cut(SessionCase):
         self.session.clock(2)
         self.assertEqual(self.session.cut(1, 3), 1)
         self.assertEqual(
-            self.session.row(),
+            self.session.pieces(),
             [piece("a"), piece("b", [], [1]), piece("c", [], [1]), piece("d"), END],
         )
         self.assertEqual(self.session.changes(), [(4, 2, 2)])
@@ -31,7 +31,7 @@ class Cut(SessionCase):
         self.session.author(2)
         self.session.track(0)
         self.assertEqual(self.session.cut(0, 2), 0)
-        self.assertEqual(self.session.row(), [END])
+        self.assertEqual(self.session.pieces(), [END])
 
     def test_hidden_pieces_within_the_stretch_stay_as_they_are(self):
         self.session.put(0, "abcd")
@@ -39,7 +39,7 @@ class Cut(SessionCase):
         self.session.cut(1, 2)
         self.assertEqual(self.session.cut(0, 2), 2)
         self.assertEqual(
-            self.session.row(),
+            self.session.pieces(),
             [piece("a", [], [2]), piece("b", [], [1]), piece("c", [], [2]), piece("d"), END],
         )
         self.session.track(0)
@@ -49,7 +49,7 @@ class Cut(SessionCase):
     def test_all_but_the_last_end(self):
         self.session.put(0, "ab")
         self.session.cut(0, 2)
-        self.assertEqual(self.session.row(), [END])
+        self.assertEqual(self.session.pieces(), [END])
 
 
 class CutOwn(SessionCase):
@@ -57,7 +57,7 @@ class CutOwn(SessionCase):
         self.session.track(1)
         self.session.put(0, "ab")
         self.assertEqual(self.session.cut(0, 2), 0)
-        self.assertEqual(self.session.row(), [END])
+        self.assertEqual(self.session.pieces(), [END])
         self.assertEqual(self.session.size(), [1, 1, 1, 1])
 
     def test_own_and_other_pieces_in_one_stretch(self):
@@ -65,24 +65,24 @@ class CutOwn(SessionCase):
         self.session.track(1)
         self.session.put(1, "x")
         self.assertEqual(self.session.cut(0, 3), 2)
-        self.assertEqual(self.session.row(), [piece("a", [], [2]), piece("b", [], [2]), END])
+        self.assertEqual(self.session.pieces(), [piece("a", [], [2]), piece("b", [], [2]), END])
 
     def test_pieces_of_another_author_are_not_own(self):
         self.session.track(1)
         self.session.put(0, "a")
         self.session.author(2)
         self.assertEqual(self.session.cut(0, 1), 2)
-        self.assertEqual(self.session.row(), [piece("a", [1], [2]), END])
+        self.assertEqual(self.session.pieces(), [piece("a", [1], [2]), END])
 
     def test_the_last_insertion_decides(self):
         self.session.track(1)
         self.session.put(0, "ab")
         self.session.author(2)
         self.session.move(0, 1, 2)
-        self.assertEqual(self.session.row()[2], piece("a", [1, 2]))
+        self.assertEqual(self.session.pieces()[2], piece("a", [1, 2]))
         self.session.author(1)
         self.assertEqual(self.session.cut(1, 2), 3)
-        self.assertEqual(self.session.row()[2], piece("a", [1, 2], [3]))
+        self.assertEqual(self.session.pieces()[2], piece("a", [1, 2], [3]))
 
     def test_what_a_command_takes_away_is_in_no_tally(self):
         self.session.track(1)

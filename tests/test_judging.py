@@ -17,12 +17,12 @@ class WorkedExampleOfPendingLooks(SessionCase):
         for k, value in ((0, 5), (1, 6), (0, 7), (0, 8)):
             self.session.paint(0, 1, k, value)
         all_pending = [(1, 0, 5), (2, 1, 6), (3, 0, 7), (4, 0, 8)]
-        self.assertEqual(self.session.row()[0], piece("a", pending=all_pending))
+        self.assertEqual(self.session.pieces()[0], piece("a", pending=all_pending))
 
     def test_accepted(self):
         self.assertEqual(self.session.judge(1, 3), [1, 0, 2])
         self.assertEqual(
-            self.session.row()[0], piece("a", pending=[(2, 1, 6), (4, 0, 8)], look=(7, 0, 0, 0))
+            self.session.pieces()[0], piece("a", pending=[(2, 1, 6), (4, 0, 8)], look=(7, 0, 0, 0))
         )
         self.assertEqual(self.session.tallies(3), (1, 0, 0))
         self.assertEqual(self.session.tallies(1), (0, 0, 1))
@@ -30,7 +30,7 @@ class WorkedExampleOfPendingLooks(SessionCase):
     def test_rejected(self):
         self.assertEqual(self.session.judge(0, 3), [1, 0, 1])
         self.assertEqual(
-            self.session.row()[0], piece("a", pending=[(1, 0, 5), (2, 1, 6), (4, 0, 8)])
+            self.session.pieces()[0], piece("a", pending=[(1, 0, 5), (2, 1, 6), (4, 0, 8)])
         )
         self.assertEqual(self.session.tallies(3), (0, 1, 0))
         self.assertEqual(self.session.tallies(1), (0, 0, 0))
@@ -48,13 +48,13 @@ class ExampleBehindThePromises(SessionCase):
 
     def test_the_row(self):
         self.assertEqual(
-            self.session.row(),
+            self.session.pieces(),
             [piece("a"), piece("x", [1]), piece("y", [1], [2]), piece("b", [], [2]), piece("c"), END],
         )
 
     def test_rejecting_the_put(self):
         self.assertEqual(self.session.judge(0, 1), [1, 2, 3])
-        self.assertEqual(self.session.row(), [piece("a"), piece("b", [], [2]), piece("c"), END])
+        self.assertEqual(self.session.pieces(), [piece("a"), piece("b", [], [2]), piece("c"), END])
         self.assertEqual(self.session.tallies(1), (0, 2, 0))
         self.assertEqual(self.session.tallies(2), (0, 0, 1))
 
@@ -66,7 +66,7 @@ class ExampleBehindThePromises(SessionCase):
 
     def test_accepting_the_cut(self):
         self.assertEqual(self.session.judge(1, 2), [1, 2, 3])
-        self.assertEqual(self.session.row(), [piece("a"), piece("x", [1]), piece("c"), END])
+        self.assertEqual(self.session.pieces(), [piece("a"), piece("x", [1]), piece("c"), END])
         self.assertEqual(self.session.tallies(2), (2, 0, 0))
         self.assertEqual(self.session.tallies(1), (0, 0, 1))
 
@@ -84,7 +84,7 @@ class ExampleBehindThePromises(SessionCase):
     def test_verdicts_in_either_order_give_one_text(self):
         self.session.judge(1, 2)
         self.session.judge(0, 1)
-        self.assertEqual(self.session.row(), [piece("a"), piece("c"), END])
+        self.assertEqual(self.session.pieces(), [piece("a"), piece("c"), END])
 
 
 class JudgingAMove(SessionCase):
@@ -97,12 +97,12 @@ class JudgingAMove(SessionCase):
 
     def test_accepted(self):
         self.assertEqual(self.session.judge(1, 1), [1, 1, 2])
-        self.assertEqual(self.session.row(), [piece("b"), piece("a"), piece("c"), END])
+        self.assertEqual(self.session.pieces(), [piece("b"), piece("a"), piece("c"), END])
         self.assertEqual(self.session.tallies(1), (2, 0, 0))
 
     def test_rejected(self):
         self.assertEqual(self.session.judge(0, 1), [1, 1, 2])
-        self.assertEqual(self.session.row(), [piece("a"), piece("b"), piece("c"), END])
+        self.assertEqual(self.session.pieces(), [piece("a"), piece("b"), piece("c"), END])
         self.assertEqual(self.session.tallies(1), (0, 2, 0))
 
     def test_a_copy_of_a_copy_goes_with_the_first_move(self):
@@ -110,7 +110,7 @@ class JudgingAMove(SessionCase):
         self.session.move(1, 2, 3)
         self.assertEqual(self.session.signs(), "[a]b[a]ca|")
         self.assertEqual(self.session.judge(0, 1), [1, 2, 5])
-        self.assertEqual(self.session.row(), [piece("a"), piece("b"), piece("c"), END])
+        self.assertEqual(self.session.pieces(), [piece("a"), piece("b"), piece("c"), END])
         self.assertEqual(self.session.tallies(1), (0, 3, 0))
         self.assertEqual(self.session.tallies(2), (0, 0, 2))
 
@@ -119,7 +119,7 @@ class JudgingAMove(SessionCase):
         self.session.move(1, 2, 3)
         self.assertEqual(self.session.judge(1, 2), [1, 1, 3])
         self.assertEqual(
-            self.session.row(), [piece("a", [], [1]), piece("b"), piece("c"), piece("a", [1]), END]
+            self.session.pieces(), [piece("a", [], [1]), piece("b"), piece("c"), piece("a", [1]), END]
         )
         self.assertEqual(self.session.tallies(2), (2, 0, 0))
         self.assertEqual(self.session.tallies(1), (0, 0, 1))
@@ -132,14 +132,14 @@ class JudgingPendingLooks(SessionCase):
         self.session.paint(0, 1, 1, 6)
         self.session.paint(0, 1, 0, 7)
         self.assertEqual(self.session.judge(1, 3), [1, 0, 2])
-        self.assertEqual(self.session.row(), [piece(10, pending=[(2, 1, 6)], look=(7, 0, 0, 0))])
+        self.assertEqual(self.session.pieces(), [piece(10, pending=[(2, 1, 6)], look=(7, 0, 0, 0))])
 
     def test_accepting_the_first_leaves_what_is_behind(self):
         self.session.track(1)
         self.session.paint(0, 1, 0, 5)
         self.session.paint(0, 1, 0, 7)
         self.assertEqual(self.session.judge(1, 1), [1, 0, 1])
-        self.assertEqual(self.session.row(), [piece(10, pending=[(2, 0, 7)], look=(5, 0, 0, 0))])
+        self.assertEqual(self.session.pieces(), [piece(10, pending=[(2, 0, 7)], look=(5, 0, 0, 0))])
 
     def test_pending_looks_go_with_their_piece(self):
         self.session.track(1)
@@ -147,7 +147,7 @@ class JudgingPendingLooks(SessionCase):
         self.session.author(2)
         self.session.paint(0, 3, 0, 5)
         self.assertEqual(self.session.judge(0, 1), [1, 2, 4])
-        self.assertEqual(self.session.row(), [piece(10, pending=[(2, 0, 5)])])
+        self.assertEqual(self.session.pieces(), [piece(10, pending=[(2, 0, 5)])])
         self.assertEqual(self.session.tallies(2), (0, 0, 2))
 
     def test_tallies_add_up_over_pieces_and_calls(self):
@@ -208,7 +208,7 @@ class ManyChanges(SessionCase):
 
     def standing(self):
         standing = []
-        for _, _, insertions, deletions, pending in self.session.row():
+        for _, _, insertions, deletions, pending in self.session.pieces():
             standing += insertions + deletions + tuple(entry[0] for entry in pending)
         return sorted(set(standing))
 
@@ -248,7 +248,7 @@ class Judgeby(ManyChanges):
     def test_all(self):
         self.assertEqual(self.session.judgeby(1, 0, 0, -HUGE, HUGE), [5, 2, 6])
         self.assertEqual(
-            self.session.row(),
+            self.session.pieces(),
             [piece("x"), piece("y"), piece("c"), piece("b", look=(5, 0, 0, 0)), piece("d"), piece("e"), piece("f"), END],
         )
 
@@ -329,7 +329,7 @@ class OneAfterTheOther(SessionCase):
         self.session.paint(0, 1, 0, 5)
         self.session.paint(0, 1, 0, 7)
         self.assertEqual(self.session.judgelist(1, [2, 1]), [2, 0, 2])
-        self.assertEqual(self.session.row(), [piece(10, look=(7, 0, 0, 0))])
+        self.assertEqual(self.session.pieces(), [piece(10, look=(7, 0, 0, 0))])
         self.assertEqual(self.session.tallies(1), (1, 0, 0))
         self.assertEqual(self.session.tallies(2), (1, 0, 0))
 

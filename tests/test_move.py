@@ -33,10 +33,10 @@ class MoveUntracked(SessionCase):
         self.session.author(3)
         self.session.paint(1, 2, 0, 5)
         moved = piece("x", [1], pending=[(2, 0, 5)])
-        self.assertEqual(self.session.row()[1], moved)
+        self.assertEqual(self.session.pieces()[1], moved)
         self.session.track(0)
         self.assertEqual(self.session.move(1, 2, 0), 0)
-        self.assertEqual(self.session.row()[:2], [moved, piece("a")])
+        self.assertEqual(self.session.pieces()[:2], [moved, piece("a")])
 
 
 class MoveTracked(SessionCase):
@@ -50,7 +50,7 @@ class MoveTracked(SessionCase):
     def test_to_the_left(self):
         self.assertEqual(self.session.move(2, 4, 1), 1)
         self.assertEqual(
-            self.session.row(),
+            self.session.pieces(),
             [
                 piece("a"),
                 piece("c", [1]),
@@ -66,7 +66,7 @@ class MoveTracked(SessionCase):
     def test_to_the_right(self):
         self.assertEqual(self.session.move(0, 2, 3), 1)
         self.assertEqual(
-            self.session.row(),
+            self.session.pieces(),
             [
                 piece("a", [], [1]),
                 piece("b", [], [1]),
@@ -89,7 +89,7 @@ class MoveTracked(SessionCase):
         self.session.paint(1, 2, 0, 5)
         self.assertEqual(self.session.move(1, 2, 3), 3)
         self.assertEqual(
-            self.session.row()[1:5],
+            self.session.pieces()[1:5],
             [
                 piece("x", [1], [3], [(2, 0, 5)], (0, 0, 0, 9)),
                 piece("b"),
@@ -110,7 +110,7 @@ class MoveTracked(SessionCase):
         self.session.author(3)
         self.assertEqual(self.session.move(1, 2, 3), 2)
         self.assertEqual(
-            self.session.row(),
+            self.session.pieces(),
             [
                 piece("a", [], [1]),
                 piece("b"),
@@ -126,7 +126,7 @@ class MoveTracked(SessionCase):
         self.session.put(1, "x")
         self.assertEqual(self.session.move(0, 3, 4), 2)
         self.assertEqual(
-            self.session.row(),
+            self.session.pieces(),
             [
                 piece("a", [], [2]),
                 piece("b", [], [2]),

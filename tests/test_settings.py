@@ -9,7 +9,7 @@ HUGE = 10 ** 18
 
 class NewObject(SessionCase):
     def test_holds_the_last_end_alone(self):
-        self.assertEqual(self.session.row(), [END])
+        self.assertEqual(self.session.pieces(), [END])
         self.assertEqual(self.session.size(), [1, 1, 1, 0])
 
     def test_author_is_1_time_is_0_tracking_is_off(self):
@@ -84,7 +84,7 @@ class Track(SessionCase):
         self.session.author(2)
         self.session.cut(0, 1)
         self.session.track(0)
-        self.assertEqual(self.session.row(), [piece("a", [1], [2]), END])
+        self.assertEqual(self.session.pieces(), [piece("a", [1], [2]), END])
 
 
 class Size(SessionCase):

@@ -3,14 +3,10 @@
 from trackverdict.refusals import BAD_ORDER, BAD_PLACE, BAD_VALUE
 from trackverdict.row import count_shown, divide, divide_stretch
 from trackverdict.runs import PARAGRAPH_END, PLAIN_LOOK, Run, is_shown, look_as_shown
-from trackverdict.runs import painted_outright, value_as_shown
-from trackverdict.runs import with_deletion, with_insertion, with_pending_look
+from trackverdict.runs import painted_outright, painted_tracked
+from trackverdict.runs import with_deletion, with_insertion
+from trackverdict.text import KIND_CUT, KIND_MOVE, KIND_PAINT, KIND_PUT
 from trackverdict.text import coming_change, enter_change, is_own
-
-KIND_PUT = 1
-KIND_CUT = 2
-KIND_PAINT = 3
-KIND_MOVE = 4
 
 
 def is_sign(number):
@@ -28,24 +24,14 @@ def look_behind(before):
         if is_shown(run):
             if run.signs[-1] == PARAGRAPH_END:
                 return PLAIN_LOOK
-            return look_as_shown(run)
+            return look_as_shown(run, len(run.signs) - 1)
     return PLAIN_LOOK
 
 
 # The look of new paragraph's ends before these runs, which hold the last end at least.
 def look_of_end(behind):
     ends = [run for run in behind if is_shown(run) and PARAGRAPH_END in run.signs]
-    return look_as_shown(ends[0])
-
-
-def new_runs(signs, looks, insertions):
-    runs = []
-    start = 0
-    for end in range(1, len(signs) + 1):
-        if end == len(signs) or looks[end] != looks[start]:
-            runs.append(Run(tuple(signs[start:end]), looks[start], insertions, (), ()))
-            start = end
-    return runs
+    return look_as_shown(ends[0], ends[0].signs.index(PARAGRAPH_END))
 
 
 def put(text, p, signs):
@@ -58,8 +44,9 @@ def put(text, p, signs):
     end_look = look_of_end(halves[1])
     looks = [end_look if sign == PARAGRAPH_END else sign_look for sign in signs]
     insertions = (coming_change(text),) if text.tracking else ()
-    text.row = halves[0] + new_runs(signs, looks, insertions) + halves[1]
-    return [enter_change(text, KIND_PUT)]
+    made = [Run(tuple(signs), tuple(looks), insertions, (), ())]
+    text.row = halves[0] + made + halves[1]
+    return [enter_change(text, KIND_PUT, made)]
 
 
 def cut(text, p, q):
@@ -74,15 +61,16 @@ def cut(text, p, q):
         elif not works_outright(text, run):
             staying.append(with_deletion(run, m))
     text.row = parts[0] + staying + parts[2]
-    return [enter_change(text, KIND_CUT)]
+    return [enter_change(text, KIND_CUT, staying)]
 
 
+# Answers the runs that the run becomes.
 def painted(text, run, k, value):
+    if not is_shown(run):
+        return [run]
     if works_outright(text, run):
-        return painted_outright(run, k, value)
-    if value_as_shown(run, k) == value:
-        return run
-    return with_pending_look(run, coming_change(text), k, value)
+        return [painted_outright(run, k, value)]
+    return painted_tracked(run, coming_change(text), k, value)
 
 
 def paint(text, p, q, k, value):
@@ -91,9 +79,11 @@ def paint(text, p, q, k, value):
     if not 0 <= k <= 3 or not 0 <= value <= 99:
         return [BAD_VALUE]
     parts = divide_stretch(text.row, p, q)
-    middle = [painted(text, run, k, value) if is_shown(run) else run for run in parts[1]]
-    text.row = parts[0] + middle + parts[2]
-    return [enter_change(text, KIND_PAINT)]
+    made = []
+    for run in parts[1]:
+        made.extend(painted(text, run, k, value))
+    text.row = parts[0] + made + parts[2]
+    return [enter_change(text, KIND_PAINT, made)]
 
 
 def move(text, p, q, r):
@@ -120,4 +110,4 @@ def move(text, p, q, r):
     else:
         halves = divide(parts[2], r - q)
         text.row = parts[0] + staying + halves[0] + coming + halves[1]
-    return [enter_change(text, KIND_MOVE)]
+    return [enter_change(text, KIND_MOVE, staying + coming)]

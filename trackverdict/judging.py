@@ -1,125 +1,27 @@
-"""Giving verdicts upon changes, and the calls that do: judge, judgeby and judgelist."""
+"""The calls that give verdicts: judge, judgeby, judgelist, judgetouching and judgepart."""
 
-from trackverdict.refusals import BAD_VALUE, NO_SUCH_CHANGE
-from trackverdict.row import count_by_marks, count_marks, count_pieces
-from trackverdict.runs import Run, changes_of, marks_of
-
-ACCEPT = 1
-
-
-# What verdicts make of a piece with these marks, whatever its sign and own look are.
-# settled is a dict from the properties of the own look that they set to the values.
-class Outcome:
-    def __init__(self, marks):
-        self.gone = False
-        self.insertions = marks[0]
-        self.deletions = marks[1]
-        self.pending = marks[2]
-        self.settled = {}
+from trackverdict.outcomes import give_verdicts, is_verdict, keyed
+from trackverdict.refusals import BAD_PLACE, BAD_VALUE, NO_SUCH_CHANGE
+from trackverdict.row import changes_borne, count_marks, count_pieces, divide_part
+from trackverdict.text import KIND_MOVE, is_entered
 
 
-def without(changes, c):
-    return tuple([d for d in changes if d != c])
-
-
-def accept(outcome, c):
-    if c in outcome.deletions:
-        outcome.gone = True
-        return
-    last = {}
-    for index, entry in enumerate(outcome.pending):
-        if entry[0] == c:
-            last[entry[1]] = index
-    for k in last:
-        outcome.settled[k] = outcome.pending[last[k]][2]
-    pending = [entry for index, entry in enumerate(outcome.pending) if index > last.get(entry[1], -1)]
-    outcome.pending = tuple(pending)
-    outcome.insertions = without(outcome.insertions, c)
-
-
-def reject(outcome, c):
-    if c in outcome.insertions:
-        outcome.gone = True
-        return
-    outcome.pending = tuple([entry for entry in outcome.pending if entry[0] != c])
-    outcome.deletions = without(outcome.deletions, c)
-
-
-def give_verdict(outcome, v, c):
-    if v == ACCEPT:
-        accept(outcome, c)
-    else:
-        reject(outcome, c)
-
-
-def changes_left(outcome):
-    if outcome.gone:
-        return []
-    return changes_of((outcome.insertions, outcome.deletions, outcome.pending))
-
-
-# Adds the weight to a tally of each of the lost changes, once for each time it comes.
-def tally(changes, v, c, lost, weight):
-    for d in lost:
-        change = changes[d - 1]
-        if d != c:
-            change.fallen = change.fallen + weight
-        elif v == ACCEPT:
-            change.accepted = change.accepted + weight
-        else:
-            change.rejected = change.rejected + weight
-
-
-# The tallies count what happens here as often as there are pieces with these marks.
-def outcome_of(changes, marks, pieces, v, selected):
-    outcome = Outcome(marks)
-    for c in sorted(set(changes_of(marks))):
-        if c in selected and not outcome.gone:
-            before = changes_left(outcome)
-            give_verdict(outcome, v, c)
-            tally(changes, v, c, before, pieces)
-            tally(changes, v, c, changes_left(outcome), 0 - pieces)
-    return outcome
-
-
-def run_after(run, outcome):
-    look = [outcome.settled.get(k, value) for k, value in enumerate(run.look)]
-    return Run(run.signs, tuple(look), outcome.insertions, outcome.deletions, outcome.pending)
-
-
-# Answers the runs that are left of the runs. What a verdict does to a piece hangs on that
-# piece alone, and tallies only add up: so pieces with the same marks are judged at once,
-# upon each of the selected changes by rising number, before other pieces are.
-# selected is a dict with the selected changes as its keys.
-def give_verdicts(changes, runs, v, selected):
-    pieces = count_by_marks(runs)
-    outcomes = {}
-    for marks in pieces:
-        outcomes[marks] = outcome_of(changes, marks, pieces[marks], v, selected)
+# shares cover the row in its order: each is a tuple of some runs and a dict with the
+# changes, as its keys, upon which these runs get the verdict.
+def judge_shares(text, v, selected, shares):
+    before = text.row
     left = []
-    for run in runs:
-        outcome = outcomes[marks_of(run)]
-        if not outcome.gone:
-            left.append(run_after(run, outcome))
-    return left
+    for share in shares:
+        left.extend(give_verdicts(text.changes, share[0], v, share[1]))
+    text.row = left
+    borne = changes_borne(before)
+    stood = len([c for c in selected if c in borne])
+    gone = count_pieces(before) - count_pieces(left)
+    return [stood, gone, count_marks(before) - count_marks(left)]
 
 
-def judge_selected(text, v, selected):
-    pieces = count_pieces(text.row)
-    marks = count_marks(text.row)
-    stood = len([c for c in selected if c in marks])
-    text.row = give_verdicts(text.changes, text.row, v, selected)
-    marks_left = count_marks(text.row)
-    gone = pieces - count_pieces(text.row)
-    return [stood, gone, sum(marks.values()) - sum(marks_left.values())]
-
-
-def is_verdict(v):
-    return 0 <= v <= 1
-
-
-def is_entered(text, c):
-    return 1 <= c <= len(text.changes)
+def judge_everywhere(text, v, selected):
+    return judge_shares(text, v, selected, [(text.row, selected)])
 
 
 def judge(text, v, c):
@@ -127,7 +29,7 @@ def judge(text, v, c):
         return [BAD_VALUE]
     if not is_entered(text, c):
         return [NO_SUCH_CHANGE]
-    return judge_selected(text, v, {c: True})
+    return judge_everywhere(text, v, keyed([c]))
 
 
 def judgeby(text, v, a, k, from_time, to_time):
@@ -141,7 +43,7 @@ def judgeby(text, v, a, k, from_time, to_time):
         of_kind = k == 0 or change.kind == k
         if by_author and of_kind and from_time <= change.time <= to_time:
             selected[index + 1] = True
-    return judge_selected(text, v, selected)
+    return judge_everywhere(text, v, selected)
 
 
 def judgelist(text, v, changes):
@@ -149,7 +51,28 @@ def judgelist(text, v, changes):
         return [BAD_VALUE]
     if not all([is_entered(text, c) for c in changes]):
         return [NO_SUCH_CHANGE]
-    selected = {}
-    for c in changes:
-        selected[c] = True
-    return judge_selected(text, v, selected)
+    return judge_everywhere(text, v, keyed(changes))
+
+
+def is_part(text, i, j):
+    return 0 <= i < j <= count_pieces(text.row)
+
+
+def judgetouching(text, v, i, j):
+    if not is_verdict(v):
+        return [BAD_VALUE]
+    if not is_part(text, i, j):
+        return [BAD_PLACE]
+    parts = divide_part(text.row, i, j)
+    return judge_everywhere(text, v, changes_borne(parts[1]))
+
+
+def judgepart(text, v, i, j):
+    if not is_verdict(v):
+        return [BAD_VALUE]
+    if not is_part(text, i, j):
+        return [BAD_PLACE]
+    parts = divide_part(text.row, i, j)
+    selected = changes_borne(parts[1])
+    moves = keyed([c for c in selected if text.changes[c - 1].kind == KIND_MOVE])
+    return judge_shares(text, v, selected, [(parts[0], moves), (parts[1], selected), (parts[2], moves)])

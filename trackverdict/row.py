@@ -1,4 +1,4 @@
-"""Counting in a row of runs, and dividing it at places of shown pieces."""
+"""Counting in a row of runs, and dividing it at places."""
 
 from trackverdict.runs import changes_of, is_shown, marks_of, part_of
 
@@ -20,31 +20,48 @@ def count_by_marks(row):
     return counts
 
 
-# A dict from each change that stands in the row to the number of its marks.
+# A dict with the changes, as its keys, that some piece of the runs bears.
+def changes_borne(runs):
+    borne = {}
+    for run in runs:
+        for c in changes_of(marks_of(run)):
+            borne[c] = True
+    return borne
+
+
+# How many marks all changes together have.
 def count_marks(row):
-    pieces = count_by_marks(row)
-    counts = {}
-    for marks in pieces:
-        for c in changes_of(marks):
-            counts[c] = counts.get(c, 0) + pieces[marks]
-    return counts
+    return sum([len(changes_of(marks_of(run))) * len(run.signs) for run in row])
 
 
-# Two lists of runs: all before the shown piece at the place, and it with all behind.
-# The place may be the number of shown pieces: then nothing is behind.
-def divide(row, place):
-    shown = 0
+def count_marks_of(row, c):
+    return sum([changes_of(marks_of(run)).count(c) * len(run.signs) for run in row])
+
+
+# Two lists of runs: all before the piece at the place, and it with all behind. Places
+# count the pieces of the runs for which is_counted, a function, tells True. The place
+# may be the number of these pieces: then nothing is behind.
+def divide_counting(row, place, is_counted):
+    passed = 0
     for index, run in enumerate(row):
-        if is_shown(run):
-            inner = place - shown
+        if is_counted(run):
+            inner = place - passed
             if inner == 0:
                 return (row[:index], row[index:])
             if inner < len(run.signs):
                 left = part_of(run, 0, inner)
                 right = part_of(run, inner, len(run.signs))
                 return (row[:index] + [left], [right] + row[index + 1:])
-            shown = shown + len(run.signs)
+            passed = passed + len(run.signs)
     return (list(row), [])
+
+
+def divide(row, place):
+    return divide_counting(row, place, is_shown)
+
+
+def divide_at_row_place(row, place):
+    return divide_counting(row, place, lambda run: True)
 
 
 # Three lists of runs: before the piece at p, from it to before the piece at q, and
@@ -52,4 +69,11 @@ def divide(row, place):
 def divide_stretch(row, p, q):
     front = divide(row, p)
     back = divide(front[1], q - p)
+    return (front[0], back[0], back[1])
+
+
+# Three lists of runs: before the part, the part, behind it.
+def divide_part(row, i, j):
+    front = divide_at_row_place(row, i)
+    back = divide_at_row_place(front[1], j - i)
     return (front[0], back[0], back[1])

@@ -1,8 +1,12 @@
-"""The text with all that is kept of it, and the calls that set or ask single values."""
+"""The text with all that is kept of it, and the calls that set single values."""
 
 from trackverdict.refusals import BAD_ORDER, BAD_VALUE
-from trackverdict.row import count_pieces, count_shown
-from trackverdict.runs import PARAGRAPH_END, PLAIN_LOOK, Run, bears
+from trackverdict.runs import PARAGRAPH_END, PLAIN_LOOK, Run
+
+KIND_PUT = 1
+KIND_CUT = 2
+KIND_PAINT = 3
+KIND_MOVE = 4
 
 
 # accepted, rejected and fallen are the tallies of the change.
@@ -23,7 +27,7 @@ class Text:
         self.time = 0
         self.tracking = False
         self.changes = []
-        self.row = [Run((PARAGRAPH_END,), PLAIN_LOOK, (), (), ())]
+        self.row = [Run((PARAGRAPH_END,), (PLAIN_LOOK,), (), (), ())]
 
 
 def set_author(text, a):
@@ -49,14 +53,8 @@ def set_tracking(text, on):
     return [0]
 
 
-def tell_size(text):
-    without_insertions = [run for run in text.row if len(run.insertions) == 0]
-    return [
-        count_shown(text.row),
-        count_pieces(text.row),
-        count_pieces(without_insertions),
-        len(text.changes),
-    ]
+def is_entered(text, c):
+    return 1 <= c <= len(text.changes)
 
 
 # The number that the change of the command under way has, if it comes to be entered.
@@ -64,17 +62,18 @@ def coming_change(text):
     return len(text.changes) + 1
 
 
-def is_borne(row, c):
-    for run in row:
-        if bears(run, c):
-            return True
-    return False
+# m is newer than all other changes: a list that holds it has it at its end.
+def bears_newest(run, m):
+    if run.insertions[-1:] == (m,) or run.deletions[-1:] == (m,):
+        return True
+    return len(run.pending) > 0 and run.pending[-1][0] == m
 
 
-# Called when a command is done: a change that no piece bears is never entered.
-def enter_change(text, kind):
+# Called when a command is done, with the runs of the row that it made: a change that
+# no piece bears is never entered.
+def enter_change(text, kind, made):
     m = coming_change(text)
-    if not is_borne(text.row, m):
+    if not any([bears_newest(run, m) for run in made]):
         return 0
     text.changes.append(Change(text.author, text.time, kind))
     return m

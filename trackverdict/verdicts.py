@@ -1,8 +1,10 @@
 """The interface: a list of calls is read, and the list of their answers is built."""
 
 from trackverdict.commands import cut, move, paint, put
-from trackverdict.judging import judge, judgeby, judgelist
-from trackverdict.text import Text, set_author, set_clock, set_tracking, tell_size
+from trackverdict.judging import judge, judgeby, judgelist, judgepart, judgetouching
+from trackverdict.telling import tell_falls, tell_fate, tell_people, tell_row
+from trackverdict.telling import tell_size, tell_spots, tell_standing, tell_what
+from trackverdict.text import Text, set_author, set_clock, set_tracking
 
 AUTHOR = 0
 CLOCK = 1
@@ -13,12 +15,23 @@ PAINT = 5
 MOVE = 6
 JUDGE = 7
 JUDGEBY = 8
-SIZE = 19
+JUDGELIST = 9
+JUDGETOUCHING = 10
+JUDGEPART = 11
+FALLS = 12
+SPOTS = 13
+STANDING = 14
+FATE = 15
+WHAT = 16
+ROW = 17
+PEOPLE = 18
 
 # By the number of the call: how many whole numbers stand behind it, its list not counted.
-NUMBER_COUNTS = {0: 1, 1: 1, 2: 1, 3: 1, 4: 2, 5: 4, 6: 3, 7: 2, 8: 5, 9: 1, 19: 0}
+NUMBER_COUNTS = (1, 1, 1, 1, 2, 4, 3, 2, 5, 1, 3, 3, 2, 1, 0, 1, 0, 0, 0, 0)
 
-CALLS_WITH_LIST = (3, 9)
+
+def has_list(call):
+    return call in (PUT, JUDGELIST, WHAT)
 
 
 def answer_setting(text, call, number):
@@ -44,17 +57,39 @@ def answer_judging(text, call, numbers, changes):
         return judge(text, numbers[0], numbers[1])
     if call == JUDGEBY:
         return judgeby(text, numbers[0], numbers[1], numbers[2], numbers[3], numbers[4])
-    return judgelist(text, numbers[0], changes)
+    if call == JUDGELIST:
+        return judgelist(text, numbers[0], changes)
+    if call == JUDGETOUCHING:
+        return judgetouching(text, numbers[0], numbers[1], numbers[2])
+    return judgepart(text, numbers[0], numbers[1], numbers[2])
+
+
+def answer_telling(text, call, numbers, changes):
+    if call == FALLS:
+        return tell_falls(text, numbers[0], numbers[1])
+    if call == SPOTS:
+        return tell_spots(text, numbers[0])
+    if call == STANDING:
+        return tell_standing(text)
+    if call == FATE:
+        return tell_fate(text, numbers[0])
+    if call == WHAT:
+        return tell_what(text, changes)
+    if call == ROW:
+        return tell_row(text)
+    if call == PEOPLE:
+        return tell_people(text)
+    return tell_size(text)
 
 
 def answer_call(text, call, numbers, listed):
-    if call in (AUTHOR, CLOCK, TRACK):
+    if call <= TRACK:
         return answer_setting(text, call, numbers[0])
-    if call in (PUT, CUT, PAINT, MOVE):
+    if call <= MOVE:
         return answer_command(text, call, numbers, listed)
-    if call == SIZE:
-        return tell_size(text)
-    return answer_judging(text, call, numbers, listed)
+    if call <= JUDGEPART:
+        return answer_judging(text, call, numbers, listed)
+    return answer_telling(text, call, numbers, listed)
 
 
 def answers(calls):
@@ -66,7 +101,7 @@ def answers(calls):
         behind = at + 1 + NUMBER_COUNTS[call]
         numbers = calls[at + 1:behind]
         listed = []
-        if call in CALLS_WITH_LIST:
+        if has_list(call):
             start = behind + 1
             behind = start + calls[behind]
             listed = calls[start:behind]
